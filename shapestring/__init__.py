@@ -1,0 +1,1 @@
+"""Shapestring: skins of triangles wound off into words."""
