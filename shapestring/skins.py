@@ -2,6 +2,7 @@
 
 from shapestring.errors import NoSkin, TooMany
 from shapestring.kinds import is_corner
+from shapestring.rings import first_of
 
 MOST_TRIPLES = 200
 
@@ -49,10 +50,8 @@ def steps_by_corner(thirds):
 
 def hang_together(about):
     """Whether the steps about a corner are one row or one ring."""
-    reached = list(about.values())
-    begins = [p for p in about if p not in reached]
     # In a row only its first triangle leads to all others, in a ring any one does.
-    at = begins[0] if begins else min(about)
+    at = first_of(about)
     left = dict(about)
     while at in left:
         at = left.pop(at)
@@ -84,6 +83,7 @@ class Skin:
         self.ordered = sorted([begun_least(triple) for triple in checked])
         self.rising = sorted(steps)
         self.thirds = thirds
+        self.steps = steps
 
     def triangles(self):
         """The triples, sorted, each begun at its least corner."""

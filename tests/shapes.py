@@ -1,5 +1,7 @@
 """Shapes for the tests, and a slow reading of point 4 to hold the program against."""
 
+import random
+
 TETRAHEDRON = [(0, 1, 2), (0, 2, 3), (0, 3, 1), (1, 3, 2)]
 STRIP = [(0, 1, 2), (1, 3, 2), (2, 3, 4)]
 BOW_TIE = [(0, 1, 2), (0, 3, 4)]
@@ -96,3 +98,147 @@ def slow_third(triples, a, b):
 
 def slow_triangles(triples):
     return sorted(begun_at(triple, min(triple)) for triple in triples)
+
+
+def fan(many):
+    """That many triangles from first to last about corner 0."""
+    return [(0, k, k + 1) for k in range(1, many + 1)]
+
+
+def wheel(many):
+    """That many triangles all about corner 0, with one rim."""
+    return [(0, k + 1, (k + 1) % many + 1) for k in range(many)]
+
+
+def shifted(triples, by):
+    return [tuple(c + by for c in triple) for triple in triples]
+
+
+def mirrored(triples):
+    return [triple[::-1] for triple in triples]
+
+
+def corners_of(triples):
+    return sorted({c for triple in triples for c in triple})
+
+
+def glued(one, other):
+    """Two skins made one: a triangle of each goes, and there they are sewn together."""
+    a, b, c = one[0]
+    other = shifted(other, max(corners_of(one)) + 1)
+    p, q, r = other[0]
+    names = {p: b, q: a, r: c}
+    return one[1:] + [tuple(names.get(each, each) for each in triple) for triple in other[1:]]
+
+
+def rings(many):
+    """That many rings of seven corners joined: a closed skin of so many handles."""
+    skin = torus()
+    for k in range(many - 1):
+        skin = glued(skin[-1:] + skin[:-1], torus())
+    return skin
+
+
+def put_in(triples, at):
+    """A new corner put into triangle number at."""
+    a, b, c = triples[at]
+    x = max(corners_of(triples)) + 1
+    return triples[:at] + triples[at + 1:] + [(a, b, x), (b, c, x), (c, a, x)]
+
+
+def without_corners(triples, gone):
+    return [triple for triple in triples if not any(c in gone for c in triple)]
+
+
+def pierced(triples, many):
+    """So many more rims of three corners each, all of them new."""
+    for k in range(many):
+        triples = put_in(triples, 0)
+        triples = put_in(triples, len(triples) - 1)
+        triples = put_in(triples, len(triples) - 2)
+        triples = triples[:-2] + triples[-1:]
+    return triples
+
+
+def sleeve(many):
+    """A skin about a ring, with two rims of that many corners each."""
+    triples = []
+    for k in range(many):
+        onward = (k + 1) % many
+        triples.append((k, onward, many + k))
+        triples.append((onward, many + onward, many + k))
+    return triples
+
+
+BIG = 10 ** 60 - 1
+
+
+def renamed_big(triples):
+    """The same shape over corners of up to sixty figures."""
+    return [tuple(BIG - 7 * c for c in triple) for triple in triples]
+
+
+def all_sides(triples):
+    return [side for triple in triples for side in sides(triple)]
+
+
+def closed(triples):
+    """All rims closed by new corners, each rim by one; found without the program."""
+    known = set(all_sides(triples))
+    onward = {a: b for a, b in known if (b, a) not in known}
+    told = list(triples)
+    h = max(corners_of(triples), default=0)
+    while onward:
+        h += 1
+        p = min(onward)
+        while p in onward:
+            q = onward.pop(p)
+            told.append((q, p, h))
+            p = q
+    return told
+
+
+def part_of(whole, seed):
+    """Some triangles of a closed skin that are a skin again."""
+    chance = random.Random(seed)
+    part = list(whole)
+    for turn in range(chance.randrange(len(whole))):
+        gone = chance.choice(part)
+        if chance.randrange(4) == 0:
+            fewer = without_corners(part, gone[:chance.randrange(1, 3)])
+        else:
+            fewer = [triple for triple in part if triple != gone]
+        if fewer and slow_round_fault(fewer) is None:
+            part = fewer
+    return part
+
+
+def skins():
+    """Shapes of many kinds, each with a name."""
+    return [
+        ("none", []),
+        ("one", [(7, 2, 4)]),
+        ("both ways round", [(0, 1, 2), (0, 2, 1)]),
+        ("strip", STRIP),
+        ("tetrahedron", TETRAHEDRON),
+        ("octahedron", spindle(4)),
+        ("fan", fan(9)),
+        ("wheel of three", wheel(3)),
+        ("wheel", shifted(wheel(9), 5)),
+        ("two hundred in a fan", fan(200)),
+        ("two hundred about one", wheel(200)),
+        ("spindle", spindle(100)),
+        ("ring", torus()),
+        ("two rings", rings(2)),
+        ("four rings", rings(4)),
+        ("ring with a rim", torus()[1:]),
+        ("ring with a great rim", without_corners(torus(), [3])),
+        ("rings with rims", pierced(rings(3), 3)),
+        ("sleeve", sleeve(8)),
+        ("sleeve with holes", pierced(sleeve(4), 2)),
+        ("two pieces", TETRAHEDRON + [(10, 12, 11)]),
+        ("several pieces", shifted(STRIP, 40) + torus() + shifted(sleeve(5), 60) + [(20, 30, 25)]),
+        ("apart", apart(40)),
+        ("big", renamed_big(glued(torus(), put_in(TETRAHEDRON, 1)))),
+        ("big with a rim", renamed_big(wheel(6))),
+    ]
