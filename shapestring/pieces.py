@@ -8,8 +8,9 @@ def piece_of(skin, corner):
     found = {corner: True}
     waiting = [corner]
     while waiting:
-        about = skin.steps[waiting.pop()]
-        for beside in list(about.keys()) + list(about.values()):
+        here = waiting.pop()
+        # One corner on in each triangle is enough: three such steps lead about it.
+        for beside in skin.steps[here]:
             if beside not in found:
                 found[beside] = True
                 waiting.append(beside)

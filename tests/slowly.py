@@ -126,3 +126,106 @@ def chosen_row(seed, many):
         row.append(letter)
         front = put(front, letter)[1]
     return row
+
+
+def slow_end(letters):
+    """Letters that end the row: each loop gets a collar of new corners, then a new corner amid it."""
+    loops = put_all(letters)[0]
+    told = []
+    for loop in loops[::-1]:
+        if len(loop) <= 3:
+            told += [("C",), ("E",)][len(loop) - 2:]
+        else:
+            told += [("C",)] + [("C",), ("L",)] * (len(loop) - 1) + [("C",)] + [("L",)] * (len(loop) - 1) + [("E",)]
+    return told
+
+
+def chosen_closed(seed, many):
+    """The triples of a word that begins with at most so many chosen letters."""
+    row = chosen_row(seed, many)
+    return put_all(row + slow_end(row))[1]
+
+
+def letter_off(front, x, thirds, names, a, b):
+    """The letter of the triangle (a, b, x), names and numbers as point 11 has them; x has come."""
+    number = {name: at for at, name in enumerate(names)}
+    open_sides = wanted(front[0])
+    if (b, number[x]) in open_sides and (number[x], a) in open_sides:
+        return ("E",)
+    if (b, number[x]) in open_sides:
+        return ("R",)
+    if (number[x], a) in open_sides:
+        return ("L",)
+    q = names[a]
+    while (number[x], number.get(q)) not in open_sides:
+        q = thirds[(q, x)]
+    for j, loop in enumerate(front[0][::-1]):
+        for k, here in enumerate(loop):
+            if here == number[x] and loop[(k + 1) % len(loop)] == number[q]:
+                return ("S", j, k)
+    raise AssertionError("no place")
+
+
+def wound_off(triples, side):
+    """The tuple that point 11 tells of a skin's triples and one of its sides."""
+    thirds = {}
+    for triple in shapes.closed(triples):
+        for a, b, c in (triple, shapes.turned(triple, 1), shapes.turned(triple, 2)):
+            thirds[(a, b)] = c
+    front = BEGIN
+    word = []
+    names = list(side)
+    while front[0]:
+        a, b = front[0][-1][:2]
+        x = thirds[(names[a], names[b])]
+        if x in names:
+            word.append(letter_off(front, x, thirds, names, a, b))
+        else:
+            word.append(("C",))
+            names.append(x)
+        front = put(front, word[-1])[1]
+    last = max(shapes.corners_of(triples))
+    caps = [at for at, name in enumerate(names) if name > last]
+    return (word, caps, [None if name > last else name for name in names])
+
+
+def chosen_sides(triples, some=None):
+    """The sides of the skin; of a long one just some of them."""
+    sides = shapes.all_sides(triples)
+    if some is None or len(sides) <= some:
+        return sides
+    return random.Random(len(sides)).sample(sides, some)
+
+
+def rims_as_sides(triples):
+    """The sides of each rim; found without the program."""
+    known = set(shapes.all_sides(triples))
+    onward = {a: b for a, b in known if (b, a) not in known}
+    told = []
+    while onward:
+        p = min(onward)
+        rim = set()
+        while p in onward:
+            rim.add((p, onward[p]))
+            p = onward.pop(p)
+        told.append(rim)
+    return told
+
+
+def wound_on(word, caps):
+    """The triangles that point 13 tells of a word and a list of whole numbers, or None of no caps."""
+    triples = put_all(word)[1]
+    corners = shapes.corners_of(triples)
+    if caps != sorted(set(caps)) or any(cap < 3 or cap not in corners for cap in caps):
+        return None
+    left = shapes.without_corners(triples, caps)
+    if shapes.slow_fault(left) is not None:
+        return None
+    asked = rims_as_sides(left)
+    for cap in caps:
+        about = [shapes.begun_at(triple, cap) for triple in triples if cap in triple]
+        turned_about = {(q, p) for h, p, q in about}
+        if turned_about not in asked:
+            return None
+        asked.remove(turned_about)
+    return None if asked else shapes.slow_triangles(left)

@@ -52,6 +52,19 @@ def class_names(gather):
     return found
 
 
+def top_names(tree):
+    """All names that are bound at a file's top."""
+    bound = []
+    for row in tree.body:
+        if isinstance(row, ast.ImportFrom):
+            bound += [each.asname or each.name for each in row.names]
+        if isinstance(row, (ast.FunctionDef, ast.ClassDef)):
+            bound.append(row.name)
+        if isinstance(row, ast.Assign):
+            bound += [target.id for target in row.targets]
+    return bound
+
+
 class FilesTest(unittest.TestCase):
 
     def test_python_files_alone_with_plain_names(self):
@@ -126,7 +139,59 @@ class FormsTest(unittest.TestCase):
                     self.assertIn(getattr(right, "value", 0), (None, True, False), (file, node.lineno))
 
 
+    def test_raise_makes_its_error_on_the_spot(self):
+        errors = {node.name for file, node in nodes(ast.ClassDef) if file == "errors.py"}
+        for file, node in nodes(ast.Raise):
+            self.assertIsInstance(node.exc, ast.Call, (file, node.lineno))
+            self.assertIn(node.exc.func.id, errors, (file, node.lineno))
+
+    def test_errors_are_taken_by_name(self):
+        errors = {node.name for file, node in nodes(ast.ClassDef) if file == "errors.py"}
+        for file, node in nodes(ast.ExceptHandler):
+            self.assertIn(node.type.id, errors, (file, node.lineno))
+
+    def test_what_is_walked_at_once_is_not_kept(self):
+        for file, node in nodes((ast.Assign, ast.Return)):
+            if isinstance(node.value, ast.Call):
+                called = getattr(node.value.func, "id", None) or getattr(node.value.func, "attr", None)
+                self.assertNotIn(called, ("zip", "enumerate", "reversed", "range", "items", "keys", "values"),
+                                 (file, node.lineno))
+
+    def test_sets_are_not_written(self):
+        # The program keeps dicts instead, so no rule about sets can be broken.
+        self.assertEqual(nodes((ast.Set, ast.SetComp)), [])
+        self.assertEqual([file for file, node in nodes(ast.Name) if node.id in ("set", "frozenset")], [])
+
+    def test_nothing_is_deleted_by_del(self):
+        self.assertEqual(nodes(ast.Delete), [])
+
+    def test_no_files_draw_from_one_another(self):
+        drawn = {file: set() for file in trees()}
+        for file, node in nodes(ast.ImportFrom):
+            drawn[file].add(node.module.split(".")[1] + ".py")
+        left = dict(drawn)
+        while left:
+            free = [file for file in left if not drawn[file] & set(left)]
+            self.assertNotEqual(free, [], sorted(left))
+            for file in free:
+                left.pop(file)
+
+
 class NamesTest(unittest.TestCase):
+
+    def test_names_are_bound_once_at_the_top(self):
+        for file, tree in trees().items():
+            bound = top_names(tree)
+            self.assertEqual(sorted(set(bound)), sorted(bound), file)
+
+    def test_no_local_is_called_like_an_import_a_class_or_a_def(self):
+        for file, tree in trees().items():
+            for def_ in [node for node in ast.walk(tree) if isinstance(node, ast.FunctionDef)]:
+                given = {node.id for node in ast.walk(def_) if isinstance(node, ast.Name)
+                         and isinstance(node.ctx, ast.Store)}
+                given |= {node.arg for node in ast.walk(def_) if isinstance(node, ast.arg)}
+                self.assertEqual(given & set(top_names(tree)), set(), (file, def_.name))
+                self.assertEqual(given & set(dir(builtins)), set(), (file, def_.name))
 
     def test_pythons_own_names(self):
         for file, node in nodes(ast.Name):
