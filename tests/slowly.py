@@ -109,6 +109,19 @@ def put_all(letters):
     return front
 
 
+def all_words(longest):
+    """All words of so many letters at most, and all rows of so many that begin one."""
+    words = []
+    fronts = [([], BEGIN)]
+    for length in range(longest):
+        behind = []
+        for row, front in fronts:
+            behind += [(row + [letter], put(front, letter)[1]) for letter in letters_for(front)]
+        words += [row for row, front in behind if not front[0]]
+        fronts = [(row, front) for row, front in behind if front[0]]
+    return words, [row for row, front in fronts]
+
+
 def chosen_row(seed, many):
     """At most that many letters that can be put one behind another, with partings and joins where they can be."""
     chance = random.Random(seed)

@@ -4,6 +4,7 @@ import copy
 import itertools
 import unittest
 
+import samples
 import shapes
 import slowly
 import things
@@ -16,28 +17,6 @@ from shapestring.wordtexts import read_word
 
 C, R, L, E = ("C",), ("R",), ("L",), ("E",)
 TORUS_WORD = read_word("CCCCCLS0.3S1.3LRS0.3ELE")
-
-
-def all_words(longest):
-    """All words of so many letters at most, and all rows of so many that begin one."""
-    words = []
-    fronts = [([], slowly.BEGIN)]
-    for length in range(longest):
-        behind = []
-        for row, front in fronts:
-            behind += [(row + [letter], slowly.put(front, letter)[1]) for letter in slowly.letters_for(front)]
-        words += [row for row, front in behind if not front[0]]
-        fronts = [(row, front) for row, front in behind if front[0]]
-    return words, [row for row, front in fronts]
-
-
-def words_of_skins():
-    """Words with their caps, of skins of many kinds."""
-    told = []
-    for name, triples in shapes.skins():
-        for side in slowly.chosen_sides(triples, 3):
-            told.append(wound_off(Skin(triples), side)[:2])
-    return told
 
 
 def refused_at(told_by, letters):
@@ -65,7 +44,7 @@ class EndedTest(unittest.TestCase):
         return told
 
     def test_behind_a_word_none(self):
-        for word in all_words(9)[0] + [TORUS_WORD] + [word for word, caps in words_of_skins()]:
+        for word in slowly.all_words(9)[0] + [TORUS_WORD] + [word for word, caps in samples.words_of_skins()]:
             self.assertEqual(ended(word), [])
 
     def test_the_empty_row(self):
@@ -73,11 +52,11 @@ class EndedTest(unittest.TestCase):
 
     def test_all_rows_of_up_to_nine_letters(self):
         for longest in range(1, 10):
-            for row in all_words(longest)[1]:
+            for row in slowly.all_words(longest)[1]:
                 self.assertNotEqual(self.hold_ended(row), [])
 
     def test_each_beginning_of_a_word(self):
-        for word, caps in words_of_skins():
+        for word, caps in samples.words_of_skins():
             for length in range(0, len(word), 1 + len(word) // 12):
                 self.assertNotEqual(self.hold_ended(word[:length]), [])
         for length in range(len(TORUS_WORD)):
@@ -148,7 +127,7 @@ class NoWordTest(unittest.TestCase):
         self.hold_at([C, C, L, L, None], 3)
 
     def test_letters_behind_a_word(self):
-        for word in all_words(9)[0]:
+        for word in slowly.all_words(9)[0]:
             for letter in (C, R, L, E, ("S", 0, 3), ("S", 1, 0), None):
                 self.hold_at(word + [letter], len(word))
         self.hold_at([C, E, C, E], 2)
@@ -188,7 +167,7 @@ class NoWordTest(unittest.TestCase):
                     self.assertEqual(refused_at(ended, other), slow if isinstance(slow, int) else None)
 
     def test_wound_on_where_the_front_is_not_done(self):
-        for row in [[], [C], [C, C], [C, C, L], [C] * 200] + all_words(7)[1]:
+        for row in [[], [C], [C, C], [C, C, L], [C] * 200] + slowly.all_words(7)[1]:
             self.assertEqual(refused_at(wound_on, row), len(row))
         for length in range(len(TORUS_WORD)):
             self.assertEqual(refused_at(wound_on, TORUS_WORD[:length]), length)
@@ -207,7 +186,7 @@ class WoundOnTest(unittest.TestCase):
         self.assertIsInstance(wound_on([C, C, L, E], [3]), Skin)
 
     def test_the_empty_list_of_caps_and_none(self):
-        for word in all_words(8)[0] + [TORUS_WORD]:
+        for word in slowly.all_words(8)[0] + [TORUS_WORD]:
             asked = shapes.slow_triangles(slowly.put_all(word)[1])
             self.assertEqual(wound_on(word).triangles(), asked)
             self.assertEqual(wound_on(word, None).triangles(), asked)
@@ -276,7 +255,7 @@ class CapsTest(unittest.TestCase):
 
     def test_all_lists_of_a_few_numbers_of_all_short_words(self):
         taken = 0
-        for word in all_words(9)[0]:
+        for word in slowly.all_words(9)[0]:
             many = word.count(C) + 2
             for length in range(4):
                 for caps in itertools.product(range(-1, many + 2), repeat=length):
@@ -322,7 +301,7 @@ class CapsTest(unittest.TestCase):
             wound_on(*self.leaving_no_skin())
 
     def leaving_no_skin(self):
-        for word in all_words(10)[0]:
+        for word in slowly.all_words(10)[0]:
             for caps in itertools.combinations(range(3, word.count(C) + 2), 2):
                 left = shapes.without_corners(slowly.put_all(word)[1], caps)
                 if left and shapes.slow_fault(left) is not None:
