@@ -1,9 +1,7 @@
 """Rim sides, and the rounds of corners (point 7)."""
 
-from shapestring.errors import NoCorner
-from shapestring.kinds import is_corner
 from shapestring.rings import first_of, walked
-from shapestring.sides import checked_side
+from shapestring.sides import checked_corner, checked_side
 
 
 def is_rim_side(skin, side):
@@ -14,7 +12,5 @@ def is_rim_side(skin, side):
 
 def round_of(skin, corner):
     """The corners about the corner, or NoCorner."""
-    if not is_corner(corner) or corner not in skin.steps:
-        raise NoCorner("this is no corner of the skin")
-    about = skin.steps[corner]
+    about = skin.steps[checked_corner(skin, corner)]
     return walked(about, first_of(about))

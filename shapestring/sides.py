@@ -1,7 +1,14 @@
-"""What a side of a skin is, asked of anything."""
+"""What a corner and a side of a skin are, asked of anything."""
 
-from shapestring.errors import NoSide
+from shapestring.errors import NoCorner, NoSide
 from shapestring.kinds import is_corner
+
+
+def checked_corner(skin, thing):
+    """The thing as a plain corner of the skin, or NoCorner."""
+    if not is_corner(thing) or thing not in skin.steps:
+        raise NoCorner("this is no corner of the skin")
+    return int(thing)
 
 
 def is_pair(thing):

@@ -71,12 +71,18 @@ class Winding:
         return letter
 
 
-def wound_off(skin, side):
-    """The word, the caps' numbers, and the corners as they came, or NoSide."""
-    winding = Winding(closed_thirds(skin), checked_side(skin, side))
+def wound_from(thirds, side):
+    """What a closed piece, told by its third corners, is wound off to from a side that it has."""
+    winding = Winding(thirds, side)
     word = []
     while winding.front.gate() is not None:
         word.append(winding.put_next())
     caps = [number for number, corner in enumerate(winding.named) if corner < 0]
     corners = [None if corner < 0 else corner for corner in winding.named]
     return (word, caps, corners)
+
+
+def wound_off(skin, side):
+    """The word, the caps' numbers, and the corners as they came, or NoSide."""
+    checked = checked_side(skin, side)
+    return wound_from(closed_thirds(skin), checked)

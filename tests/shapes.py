@@ -122,6 +122,15 @@ def corners_of(triples):
     return sorted({c for triple in triples for c in triple})
 
 
+def slow_pieces(triples):
+    """Lumps of corners, made one as long as a triangle has corners of two."""
+    lumps = [{c} for c in corners_of(triples)]
+    for triple in triples:
+        touched = [lump for lump in lumps if lump & set(triple)]
+        lumps = [lump for lump in lumps if not lump & set(triple)] + [set().union(*touched)]
+    return sorted(sorted(lump) for lump in lumps)
+
+
 def glued(one, other):
     """Two skins made one: a triangle of each goes, and there they are sewn together."""
     a, b, c = one[0]

@@ -94,3 +94,76 @@ def all_deeds(triples, sides, fresh):
 
 def fresh_of(triples):
     return max(shapes.corners_of(triples), default=-1) + 1
+
+
+def mended(triples, side, deed):
+    """(stretch, caps), or what it is refused with, in the form of changed; the side is the skin's."""
+    told = changed(triples, deed)
+    if told[0] != "skin":
+        return told
+    if side not in shapes.all_sides(told[1]):
+        return ("Gone",)
+    word, caps, corners = slowly.wound_off(told[1], side)
+    return (stretch(slowly.wound_off(triples, side)[0], word), caps)
+
+
+def piece_triples(triples, corner):
+    piece = [each for each in shapes.slow_pieces(triples) if corner in each][0]
+    return [triple for triple in triples if triple[0] in piece]
+
+
+def leasts(triples):
+    """The least (word, caps) of each piece, sorted."""
+    told = []
+    for piece in shapes.slow_pieces(triples):
+        sides = shapes.all_sides(piece_triples(triples, piece[0]))
+        told.append(min(slowly.wound_off(triples, side)[:2] for side in sides))
+    return sorted(told)
+
+
+def thirds_of(triples):
+    return {(a, b): shapes.slow_third(triples, a, b) for a, b in shapes.all_sides(triples)}
+
+
+def names_from(thirds, side, others, other):
+    """The corners of the one piece by those of the other, where the one's side becomes the other's; or None."""
+    names = dict(zip(side, other))
+    waiting = [(side, other)]
+    done = set()
+    while waiting:
+        (a, b), (p, q) = waiting.pop()
+        if (a, b) in done:
+            continue
+        done.add((a, b))
+        if ((b, a) in thirds) != ((q, p) in others):
+            return None
+        c, r = thirds[(a, b)], others[(p, q)]
+        if names.setdefault(c, r) != r:
+            return None
+        waiting += [((b, c), (q, r)), ((c, a), (r, p))]
+        if (b, a) in thirds:
+            waiting.append(((b, a), (q, p)))
+    if len(set(names.values())) < len(names) or len(done) < len(others):
+        return None
+    return names
+
+
+def ways(one, other):
+    """How many ways one piece's triangles become the other's, found side by side, without words."""
+    thirds, others = thirds_of(one), thirds_of(other)
+    if len(thirds) != len(others):
+        return 0
+    side = next(iter(thirds))
+    return sum(names_from(thirds, side, others, each) is not None for each in others)
+
+
+def paired(one, other):
+    """("alike",), or all that point 21 tells of unlike ones."""
+    ours, theirs = leasts(one), leasts(other)
+    for at in range(max(len(ours), len(theirs))):
+        if at >= min(len(ours), len(theirs)):
+            return ("unlike", at, 0)
+        if ours[at] != theirs[at]:
+            mine, yours = ours[at][0], theirs[at][0]
+            return ("unlike", at, max(n for n in range(len(mine) + 1) if mine[:n] == yours[:n]))
+    return ("alike",)

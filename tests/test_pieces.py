@@ -7,15 +7,6 @@ from shapestring.pieces import counted, pieces
 from shapestring.skins import Skin
 
 
-def slow_pieces(triples):
-    """Lumps of corners, made one as long as a triangle has corners of two."""
-    lumps = [{c} for c in shapes.corners_of(triples)]
-    for triple in triples:
-        touched = [lump for lump in lumps if lump & set(triple)]
-        lumps = [lump for lump in lumps if not lump & set(triple)] + [set().union(*touched)]
-    return sorted(sorted(lump) for lump in lumps)
-
-
 def numbers(triples):
     return counted(Skin(triples))
 
@@ -27,7 +18,7 @@ class PiecesTest(unittest.TestCase):
             for each in (triples, triples[::-1]):
                 with self.subTest(name=name):
                     told = pieces(Skin(each))
-                    self.assertEqual(told, slow_pieces(triples))
+                    self.assertEqual(told, shapes.slow_pieces(triples))
                     self.assertEqual({type(piece) for piece in [told] + told}, {list})
 
     def test_parts_of_closed_skins(self):
@@ -36,7 +27,7 @@ class PiecesTest(unittest.TestCase):
             whole = shapes.spindle(12) + shapes.shifted(shapes.torus(), 50)
             triples = shapes.part_of(whole, seed)
             told = pieces(Skin(triples))
-            self.assertEqual(told, slow_pieces(triples))
+            self.assertEqual(told, shapes.slow_pieces(triples))
             seen.add(len(told))
         self.assertGreater(len(seen), 1)
 
@@ -89,7 +80,7 @@ class CountedTest(unittest.TestCase):
                 self.assertEqual(corners, len(shapes.corners_of(triples)))
                 self.assertEqual(sides, len({frozenset(side) for side in shapes.all_sides(triples)}))
                 self.assertEqual(triangles, len(triples))
-                self.assertEqual(parts, len(slow_pieces(triples)))
+                self.assertEqual(parts, len(shapes.slow_pieces(triples)))
                 self.assertEqual(edges, len(shapes.corners_of(shapes.closed(triples))) - corners)
                 self.assertEqual(2 * handles, 2 * parts - edges - corners + sides - triangles)
 
